@@ -1,0 +1,58 @@
+// Package latch: images that start only if they are signed: see DOC.md.
+package latch
+
+import (
+	"latch/api"
+	"latch/digest"
+)
+
+// Hash tells a text's hash (P3).
+func Hash(s string) string {
+	sum := digest.Of(s)
+	return string(sum[:])
+}
+
+// Hasher hashes what is written to it.
+type Hasher struct{ digest digest.Hasher }
+
+// NewHasher answers a hasher of the empty text (P3).
+func NewHasher() *Hasher { return &Hasher{digest: digest.New()} }
+
+// Write puts a text behind what the hasher has (P3).
+func (h *Hasher) Write(s string) { h.digest.Write(s) }
+
+// Sum tells the hash of what the hasher has (P3).
+func (h *Hasher) Sum() string {
+	sum := h.digest.Sum()
+	return string(sum[:])
+}
+
+// Reduce makes a scalar of 64 bytes (P4).
+func Reduce(wide string) (string, api.Errno) { return "", api.OK }
+
+// Add adds two points (P5).
+func Add(p string, q string) (string, api.Errno) { return "", api.OK }
+
+// Times adds a point so many times (P5).
+func Times(scalar string, p string) (string, api.Errno) { return "", api.OK }
+
+// Key tells a seed's key (P6).
+func Key(seed string) (string, api.Errno) { return "", api.OK }
+
+// Sign signs a message (P6).
+func Sign(seed string, message string) (string, api.Errno) { return "", api.OK }
+
+// Verify looks at a signature (P7).
+func Verify(key string, message string, signature string) api.Errno { return api.OK }
+
+// Loader looks at images.
+type Loader struct{}
+
+// New makes a loader (P8).
+func New(keys []string, version uint32) (*Loader, api.Errno) { return nil, api.OK }
+
+// Load looks at an image (P9).
+func (l *Loader) Load(image string) api.Verdict { return api.Verdict{} }
+
+// Version tells the least version that is taken (P9).
+func (l *Loader) Version() uint32 { return 0 }
