@@ -3,7 +3,10 @@ package latch
 
 import (
 	"latch/api"
+	"latch/curve"
 	"latch/digest"
+	"latch/number"
+	"latch/scalar"
 )
 
 // Hash tells a text's hash (P3).
@@ -28,13 +31,60 @@ func (h *Hasher) Sum() string {
 }
 
 // Reduce makes a scalar of 64 bytes (P4).
-func Reduce(wide string) (string, api.Errno) { return "", api.OK }
+func Reduce(wide string) (string, api.Errno) {
+	if len(wide) != scalar.WideSize {
+		return "", api.ErrSize
+	}
+	reduced := scalar.Reduce([scalar.WideSize]byte([]byte(wide)))
+	return string(reduced[:]), api.OK
+}
 
 // Add adds two points (P5).
-func Add(p string, q string) (string, api.Errno) { return "", api.OK }
+func Add(p string, q string) (string, api.Errno) {
+	first, firstOK := pointOf(p)
+	second, secondOK := pointOf(q)
+	if !firstOK || !secondOK {
+		return "", api.ErrPoint
+	}
+	sum := first.Add(second).Code()
+	return string(sum[:]), api.OK
+}
+
+// pointOf tells the point of a text; false, if it is no point's code.
+func pointOf(text string) (curve.Point, bool) {
+	code, ok := keySized(text)
+	if !ok {
+		return curve.Point{}, false
+	}
+	return curve.Decode(code)
+}
+
+// keySized tells the bytes of a text that is as long as a key, a seed, a scalar
+// or a point's code; false, if it is not.
+func keySized(text string) ([api.KeySize]byte, bool) {
+	if len(text) != api.KeySize {
+		return [api.KeySize]byte{}, false
+	}
+	return [api.KeySize]byte([]byte(text)), true
+}
 
 // Times adds a point so many times (P5).
-func Times(scalar string, p string) (string, api.Errno) { return "", api.OK }
+func Times(scalar string, p string) (string, api.Errno) {
+	count, ok := keySized(scalar)
+	if !ok {
+		return "", api.ErrSize
+	}
+	code, ok := keySized(p)
+	if !ok {
+		return "", api.ErrPoint
+	}
+	powers, ok := curve.PowersOf(code)
+	if !ok {
+		return "", api.ErrPoint
+	}
+	product := powers.Times(number.OfBytes(count)).Code()
+	return string(product[:]), api.OK
+}
 
 // Key tells a seed's key (P6).
 func Key(seed string) (string, api.Errno) { return "", api.OK }

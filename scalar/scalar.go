@@ -1,0 +1,38 @@
+// Package scalar: numbers modulo L, the order of B.
+package scalar
+
+import "latch/number"
+
+// WideSize is the number of bytes of a number that is to be reduced.
+const WideSize = 2 * number.Size
+
+// L, which is 2^252 + 27742317777372353535851937790883648493.
+var order = [4]uint64{0x5812631a5cf5d3ed, 0x14def9dea2f79cd6, 0, 0x1000000000000000}
+
+// Reduce tells the number that bytes are, the first one the least, modulo L.
+func Reduce(wide [WideSize]byte) [number.Size]byte {
+	var rest [4]uint64
+	for at := WideSize - 1; at >= 0; at-- {
+		rest = withByte(rest, wide[at])
+	}
+	return number.Bytes(rest)
+}
+
+// withByte tells 256 n + last modulo L. n is below L. What comes to stand at
+// 2^252 and above is taken away as so many times L: where that is too much, it
+// is by less than one L.
+func withByte(n [4]uint64, last byte) [4]uint64 {
+	over := n[3] >> 52
+	low, high := number.MulAdd(over, order[0], 0, 0)
+	middle, high := number.MulAdd(over, order[1], high, 0)
+	rest, borrow := number.Sub([4]uint64{
+		n[0]<<8 | uint64(last),
+		n[1]<<8 | n[0]>>56,
+		n[2]<<8 | n[1]>>56,
+		n[3]<<12>>4 | n[2]>>56,
+	}, [4]uint64{low, middle, high})
+	if borrow == 1 {
+		rest, _ = number.Add(rest, order)
+	}
+	return rest
+}
