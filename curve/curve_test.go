@@ -94,10 +94,22 @@ func TestDoubleIsAdd(t *testing.T) {
 	}
 }
 
+func TestOpposite(t *testing.T) {
+	p, _ := Decode(baseCode)
+	for _, q := range []Point{zero(), p, p.Double(), p.Add(p.Double()), Base()[2]} {
+		if sum := q.Add(q.Opposite()).Code(); sum != zero().Code() {
+			t.Errorf("%x and its opposite are %x", q.Code(), sum)
+		}
+		if q.Opposite().Opposite() != q {
+			t.Errorf("the opposite's opposite of %x is another", q)
+		}
+	}
+}
+
 // x y / z has to go along with x, y and z, though the code does not show it.
 func TestPartsGoTogether(t *testing.T) {
 	p, _ := Decode(baseCode)
-	for _, q := range []Point{p, zero(), p.Double(), p.Add(p), p.Add(p.Double()), Base()[3], Base().Times([4]uint64{5, 6, 7, 8})} {
+	for _, q := range []Point{p, zero(), p.Double(), p.Add(p), p.Add(p.Double()), p.Opposite(), p.Double().Opposite(), Base()[3], Base().Times([4]uint64{5, 6, 7, 8})} {
 		if q.xy.Times(q.z) != q.x.Times(q.y) || q.z == (field.Element{}) {
 			t.Errorf("the parts of %x do not go together", q)
 		}

@@ -79,6 +79,12 @@ func (p Point) Add(q Point) Point {
 	return fromParts(b.Minus(a), zz.Plus(zz).Minus(c), zz.Plus(zz).Plus(c), b.Plus(a))
 }
 
+// Opposite tells the point whose sum with p is the zero.
+func (p Point) Opposite() Point {
+	var nought field.Element
+	return Point{x: nought.Minus(p.x), y: p.y, z: p.z, xy: nought.Minus(p.xy)}
+}
+
 // Double tells the sum of a point and itself, for less work than Add.
 func (p Point) Double() Point {
 	xx, yy, zz := p.x.Square(), p.y.Square(), p.z.Square()

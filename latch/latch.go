@@ -2,11 +2,15 @@
 package latch
 
 import (
+	"errors"
+
 	"latch/api"
 	"latch/curve"
 	"latch/digest"
+	"latch/fault"
 	"latch/number"
 	"latch/scalar"
+	"latch/signing"
 )
 
 // Hash tells a text's hash (P3).
@@ -35,7 +39,7 @@ func Reduce(wide string) (string, api.Errno) {
 	if len(wide) != scalar.WideSize {
 		return "", api.ErrSize
 	}
-	reduced := scalar.Reduce([scalar.WideSize]byte([]byte(wide)))
+	reduced := number.Bytes(scalar.Reduce([scalar.WideSize]byte([]byte(wide))))
 	return string(reduced[:]), api.OK
 }
 
@@ -87,13 +91,46 @@ func Times(scalar string, p string) (string, api.Errno) {
 }
 
 // Key tells a seed's key (P6).
-func Key(seed string) (string, api.Errno) { return "", api.OK }
+func Key(seed string) (string, api.Errno) {
+	secret, err := signing.SecretOf(seed)
+	if err != nil {
+		return "", codeOf(err)
+	}
+	key := secret.Key()
+	return string(key[:]), api.OK
+}
 
 // Sign signs a message (P6).
-func Sign(seed string, message string) (string, api.Errno) { return "", api.OK }
+func Sign(seed string, message string) (string, api.Errno) {
+	secret, err := signing.SecretOf(seed)
+	if err != nil {
+		return "", codeOf(err)
+	}
+	signature := secret.Sign(message)
+	return string(signature[:]), api.OK
+}
 
 // Verify looks at a signature (P7).
-func Verify(key string, message string, signature string) api.Errno { return api.OK }
+func Verify(key string, message string, signature string) api.Errno {
+	return codeOf(signing.Verify(key, message, signature))
+}
+
+// codeOf tells the number of what is wrong. An error that has none of its own
+// is that of a signature that is not right, so that none is taken for OK.
+func codeOf(err error) api.Errno {
+	var size fault.SizeError
+	switch {
+	case err == nil:
+		return api.OK
+	case errors.As(err, &size):
+		return api.ErrSize
+	case errors.Is(err, fault.ErrPoint):
+		return api.ErrPoint
+	case errors.Is(err, fault.ErrScalar):
+		return api.ErrScalar
+	}
+	return api.ErrSign
+}
 
 // Loader looks at images.
 type Loader struct{}

@@ -3,6 +3,9 @@ package latch_test
 import (
 	"math/big"
 	"slices"
+	"strings"
+
+	"latch/api"
 )
 
 // The document's numbers, points and sums, word by word, as what the calls are
@@ -103,4 +106,56 @@ func pairOf(code string) (pair, bool) {
 func basePair() pair {
 	p, _ := pairOf(little(over(whole(4), whole(5)), 32))
 	return p
+}
+
+// hashNumber is the document's H(..).
+func hashNumber(texts ...string) *big.Int {
+	n := numberOf(wanted(strings.Join(texts, "")))
+	return n.Mod(n, order())
+}
+
+// seedParts tells a seed's number and its prefix.
+func seedParts(seed string) (*big.Int, string) {
+	sum := wanted(seed)
+	a := numberOf(sum[:32])
+	for _, bit := range []int{0, 1, 2, 255} {
+		a.SetBit(a, bit, 0)
+	}
+	return a.SetBit(a, 254, 1), sum[32:]
+}
+
+func wantKey(seed string) string {
+	a, _ := seedParts(seed)
+	return basePair().times(a).code()
+}
+
+func wantSign(seed, message string) string {
+	a, prefix := seedParts(seed)
+	r := hashNumber(prefix, message)
+	return signedBy(a, wantKey(seed), r, basePair().times(r).code(), message)
+}
+
+// signedBy tells R and r + k a modulo L, at any R.
+func signedBy(a *big.Int, key string, r *big.Int, code, message string) string {
+	s := new(big.Int).Mul(hashNumber(code, key, message), a)
+	return code + little(s.Mod(s.Add(s, r), order()), 32)
+}
+
+func wantVerify(key, message, signature string) api.Errno {
+	if len(key) != 32 || len(signature) != 64 {
+		return api.ErrSize
+	}
+	point, ok := pairOf(key)
+	if !ok {
+		return api.ErrPoint
+	}
+	s := numberOf(signature[32:])
+	if s.Cmp(order()) >= 0 {
+		return api.ErrScalar
+	}
+	k := hashNumber(signature[:32], key, message)
+	if basePair().times(s).add(point.times(k).opposite()).code() != signature[:32] {
+		return api.ErrSign
+	}
+	return api.OK
 }
