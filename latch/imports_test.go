@@ -34,8 +34,10 @@ func checkImports(t *testing.T, file string) {
 	}
 }
 
-func TestImports(t *testing.T) {
-	seen := 0
+// programFiles tells the Go files of the program, without its tests.
+func programFiles(t *testing.T) []string {
+	t.Helper()
+	var files []string
 	err := filepath.WalkDir("..", func(path string, entry fs.DirEntry, err error) error {
 		if err != nil {
 			return err
@@ -44,15 +46,21 @@ func TestImports(t *testing.T) {
 			return fs.SkipDir
 		}
 		if strings.HasSuffix(path, ".go") && !strings.HasSuffix(path, "_test.go") {
-			seen++
-			checkImports(t, path)
+			files = append(files, path)
 		}
 		return nil
 	})
 	if err != nil {
 		t.Fatal(err)
 	}
-	if seen == 0 {
-		t.Error("no Go file of the program found")
+	if len(files) == 0 {
+		t.Fatal("no Go file of the program found")
+	}
+	return files
+}
+
+func TestImports(t *testing.T) {
+	for _, file := range programFiles(t) {
+		checkImports(t, file)
 	}
 }

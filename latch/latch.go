@@ -82,7 +82,7 @@ func Times(scalar string, p string) (string, api.Errno) {
 	if !ok {
 		return "", api.ErrPoint
 	}
-	powers, ok := curve.PowersOf(code)
+	powers, ok := new(curve.Base).PowersOf(code)
 	if !ok {
 		return "", api.ErrPoint
 	}
@@ -92,7 +92,7 @@ func Times(scalar string, p string) (string, api.Errno) {
 
 // Key tells a seed's key (P6).
 func Key(seed string) (string, api.Errno) {
-	secret, err := signing.SecretOf(seed)
+	secret, err := signing.SecretOf(new(curve.Base), seed)
 	if err != nil {
 		return "", codeOf(err)
 	}
@@ -102,7 +102,7 @@ func Key(seed string) (string, api.Errno) {
 
 // Sign signs a message (P6).
 func Sign(seed string, message string) (string, api.Errno) {
-	secret, err := signing.SecretOf(seed)
+	secret, err := signing.SecretOf(new(curve.Base), seed)
 	if err != nil {
 		return "", codeOf(err)
 	}

@@ -10,17 +10,19 @@ import (
 
 // Public is what is worked out of a key.
 type Public struct {
+	base   *curve.Base
 	key    curve.Code
 	powers curve.Powers
 }
 
-// PublicOf works out a key; the error is fault.ErrPoint.
-func PublicOf(key curve.Code) (Public, error) {
-	powers, ok := curve.PowersOf(key)
+// PublicOf works out a key, which is to verify by what base has of B; the error
+// is fault.ErrPoint.
+func PublicOf(base *curve.Base, key curve.Code) (Public, error) {
+	powers, ok := base.PowersOf(key)
 	if !ok {
 		return Public{}, fault.At{What: "the key", Err: fault.ErrPoint}
 	}
-	return Public{key: key, powers: powers}, nil
+	return Public{base: base, key: key, powers: powers}, nil
 }
 
 // Verify tells what is wrong with a signature of a message by the key; nil, if
@@ -35,7 +37,7 @@ func (p Public) Verify(message string, signature [api.SignSize]byte) error {
 	k := challenge(r, p.key, message)
 	// A may have a part of small order: it is the point that takes the minus,
 	// as L - k times A would be another one.
-	sum := curve.Base().Times(s).Add(p.powers.Times(k).Opposite())
+	sum := p.base.Times(s).Add(p.powers.Times(k).Opposite())
 	if sum.Code() != r {
 		return fault.At{What: "the signature", Err: fault.ErrSign}
 	}
@@ -51,7 +53,7 @@ func Verify(key, message, signature string) error {
 	if err := fault.OfSize("the signature", signature, api.SignSize); err != nil {
 		return err
 	}
-	public, err := PublicOf(curve.Code([]byte(key)))
+	public, err := PublicOf(new(curve.Base), curve.Code([]byte(key)))
 	if err != nil {
 		return err
 	}

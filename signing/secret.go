@@ -12,22 +12,25 @@ import (
 
 // Secret is what is worked out of a seed.
 type Secret struct {
+	base   *curve.Base
 	number [4]uint64
 	prefix string
 	key    curve.Code
 }
 
-// SecretOf works out a seed; the error is that of its size.
-func SecretOf(seed string) (Secret, error) {
+// SecretOf works out a seed, which is to sign by what base has of B; the error is
+// that of its size.
+func SecretOf(base *curve.Base, seed string) (Secret, error) {
 	if err := fault.OfSize("the seed", seed, api.KeySize); err != nil {
 		return Secret{}, err
 	}
 	sum := digest.Of(seed)
 	n := seedNumber([number.Size]byte(sum[:number.Size]))
 	return Secret{
+		base:   base,
 		number: n,
 		prefix: string(sum[number.Size:]),
-		key:    curve.Base().Times(n).Code(),
+		key:    base.Times(n).Code(),
 	}, nil
 }
 
@@ -46,7 +49,7 @@ func (s Secret) Key() curve.Code { return s.key }
 // Sign tells the signature of a message.
 func (s Secret) Sign(message string) [api.SignSize]byte {
 	r := hashed(s.prefix, message)
-	code := curve.Base().Times(r).Code()
+	code := s.base.Times(r).Code()
 	k := challenge(code, s.key, message)
 	rest := number.Bytes(scalar.TimesPlus(k, s.number, r))
 	var signature [api.SignSize]byte

@@ -17,7 +17,7 @@ func libraryKey() ed25519.PrivateKey { return ed25519.NewKeyFromSeed([]byte(seed
 
 func secret(t *testing.T) Secret {
 	t.Helper()
-	s, err := SecretOf(seed)
+	s, err := SecretOf(new(curve.Base), seed)
 	if err != nil {
 		t.Fatal(err)
 	}
@@ -63,7 +63,7 @@ func TestHashedOfPieces(t *testing.T) {
 
 // One key verifies many signatures, each as if it were the first.
 func TestPublic(t *testing.T) {
-	public, err := PublicOf(secret(t).Key())
+	public, err := PublicOf(new(curve.Base), secret(t).Key())
 	if err != nil {
 		t.Fatal(err)
 	}
@@ -102,9 +102,42 @@ func TestFaultsAreWrapped(t *testing.T) {
 	if err := Verify(key, "m", right); err != nil {
 		t.Errorf("P7: Verify = %v", err)
 	}
-	_, err := SecretOf(seed + "x")
+	_, err := SecretOf(new(curve.Base), seed+"x")
 	var size fault.SizeError
 	if !errors.As(err, &size) || size.Has != 33 {
 		t.Errorf("Ways: SecretOf of 33 bytes = %v", err)
+	}
+}
+
+// asksBase tells whether B is asked for: no base is there to answer it.
+func asksBase(call func(none *curve.Base)) (asked bool) {
+	defer func() { asked = recover() != nil }()
+	call(nil)
+	return false
+}
+
+// B is worked out where it is asked for, and only then: by the base handed in.
+func TestBaseIsAskedOnlyWhereNeeded(t *testing.T) {
+	key, right := curve.Code(libraryKey()[32:]), [64]byte(ed25519.Sign(libraryKey(), []byte("m")))
+	tooGreat := right
+	tooGreat[63] = 0xff
+	verify := func(base *curve.Base, signature [64]byte) {
+		public, _ := PublicOf(base, key)
+		public.Verify("m", signature)
+	}
+	if asksBase(func(none *curve.Base) { PublicOf(none, key) }) || asksBase(func(none *curve.Base) { PublicOf(none, curve.Code{2}) }) {
+		t.Error("Ways: a key asks for B")
+	}
+	if asksBase(func(none *curve.Base) { verify(none, tooGreat) }) {
+		t.Error("Ways: an S that is not below L asks for B")
+	}
+	if asksBase(func(none *curve.Base) { SecretOf(none, "short") }) {
+		t.Error("Ways: a seed of another size asks for B")
+	}
+	if !asksBase(func(none *curve.Base) { verify(none, right) }) || !asksBase(func(none *curve.Base) { SecretOf(none, seed) }) {
+		t.Error("Ways: multiples of B are worked out beside the base")
+	}
+	if !asksBase(func(none *curve.Base) { s := secret(t); s.base = none; s.Sign("m") }) {
+		t.Error("Ways: multiples of B are worked out beside the base")
 	}
 }
