@@ -4,9 +4,13 @@ import (
 	"errors"
 	"strings"
 	"testing"
+
+	"latch/api"
 )
 
-func known() []error { return []error{ErrPoint, ErrScalar, ErrSign} }
+func known() []error {
+	return []error{ErrPoint, ErrScalar, ErrSign, ErrKeys, ImageError{Code: api.ErrSlot}, ImageError{Code: api.ErrOld}}
+}
 
 // An error that is wrapped, once or twice, is still found, and no other one.
 func TestWrappedIsFound(t *testing.T) {
@@ -54,5 +58,24 @@ func TestOfSize(t *testing.T) {
 	}
 	if got, want := OfSize("the seed", "x", 32).Error(), "the seed: it has 1 bytes, not 32"; got != want {
 		t.Errorf("Error() = %q, want %q", got, want)
+	}
+}
+
+func TestOfImage(t *testing.T) {
+	for code, want := range map[api.Errno]string{
+		api.ErrShort:  "the part: it is too short",
+		api.ErrMagic:  "the part: it is another one",
+		api.ErrHead:   "the part: it is not all 0",
+		api.ErrLength: "the part: it is not that of the payload",
+		api.ErrSlot:   "the part: it has no key",
+		api.ErrOld:    "the part: it is too old",
+		api.ErrDigest: "the part: it is not that of the payload",
+		api.ErrSize:   "the part: it is wrong by number 1",
+	} {
+		err := OfImage("the part", code)
+		var found ImageError
+		if !errors.As(err, &found) || found.Code != code || err.Error() != want {
+			t.Errorf("Ways: OfImage of %d = %v, want %s", code, err, want)
+		}
 	}
 }

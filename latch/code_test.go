@@ -17,6 +17,15 @@ func TestCodeOf(t *testing.T) {
 		{fault.ErrPoint, api.ErrPoint},
 		{fault.ErrScalar, api.ErrScalar},
 		{fault.ErrSign, api.ErrSign},
+		{fault.ErrKeys, api.ErrKeys},
+		{fault.ImageError{Code: api.ErrShort}, api.ErrShort},
+		{fault.ImageError{Code: api.ErrMagic}, api.ErrMagic},
+		{fault.ImageError{Code: api.ErrHead}, api.ErrHead},
+		{fault.ImageError{Code: api.ErrLength}, api.ErrLength},
+		{fault.ImageError{Code: api.ErrSlot}, api.ErrSlot},
+		{fault.ImageError{Code: api.ErrOld}, api.ErrOld},
+		{fault.ImageError{Code: api.ErrDigest}, api.ErrDigest},
+		{fault.ImageError{}, api.ErrSign},
 		{errors.New("not known"), api.ErrSign},
 	} {
 		once := fault.At{What: "it", Err: c.err}

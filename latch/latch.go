@@ -8,6 +8,7 @@ import (
 	"latch/curve"
 	"latch/digest"
 	"latch/fault"
+	"latch/loader"
 	"latch/number"
 	"latch/scalar"
 	"latch/signing"
@@ -119,11 +120,16 @@ func Verify(key string, message string, signature string) api.Errno {
 // is that of a signature that is not right, so that none is taken for OK.
 func codeOf(err error) api.Errno {
 	var size fault.SizeError
+	var image fault.ImageError
 	switch {
 	case err == nil:
 		return api.OK
 	case errors.As(err, &size):
 		return api.ErrSize
+	case errors.As(err, &image) && image.Code != api.OK:
+		return image.Code
+	case errors.Is(err, fault.ErrKeys):
+		return api.ErrKeys
 	case errors.Is(err, fault.ErrPoint):
 		return api.ErrPoint
 	case errors.Is(err, fault.ErrScalar):
@@ -133,13 +139,30 @@ func codeOf(err error) api.Errno {
 }
 
 // Loader looks at images.
-type Loader struct{}
+type Loader struct{ loader loader.Loader }
 
 // New makes a loader (P8).
-func New(keys []string, version uint32) (*Loader, api.Errno) { return nil, api.OK }
+func New(keys []string, version uint32) (*Loader, api.Errno) {
+	inner, err := loader.New(keys, version)
+	if err != nil {
+		return nil, codeOf(err)
+	}
+	return &Loader{loader: inner}, api.OK
+}
 
 // Load looks at an image (P9).
-func (l *Loader) Load(image string) api.Verdict { return api.Verdict{} }
+func (l *Loader) Load(image string) api.Verdict {
+	taken, err := l.loader.Load(image)
+	if err != nil {
+		return api.Verdict{Code: codeOf(err)}
+	}
+	return api.Verdict{
+		Version: taken.Version,
+		Slot:    taken.Slot,
+		From:    api.HeadSize,
+		Size:    len(taken.Payload),
+	}
+}
 
 // Version tells the least version that is taken (P9).
-func (l *Loader) Version() uint32 { return 0 }
+func (l *Loader) Version() uint32 { return l.loader.Least() }
